@@ -1,0 +1,1 @@
+"""Keynests: keys that have two homes, or three, and lie in one of them."""
