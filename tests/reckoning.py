@@ -58,6 +58,17 @@ def tight_webs(many):
     return told
 
 
+def pair_webs(many):
+    """Small webs of pairs, alike homes and homes that many keys share among them."""
+    told = []
+    for start in range(many):
+        draw = Draw(2000 + start)
+        nests = 1 + draw.below(7)
+        keys = draw.below(nests + 2) if start % 2 else nests - draw.below(2)
+        told.append(((1,) * nests, tuple((draw.below(nests), draw.below(nests)) for _ in range(keys))))
+    return told
+
+
 def great_webs(many):
     """Webs of 30 keys in 10 nests, some that fit and some that don't."""
     told = []

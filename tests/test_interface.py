@@ -16,6 +16,9 @@ FUNCTIONS = {
     "pushes": {
         "pushed": ["web", "laying", "key", "row"], "put_in": ["web", "laying", "key"],
         "within": ["web", "laying", "key", "number"]},
+    "pairs": {"parts": ["web"], "words": ["web"], "on_rings": ["web"], "ways": ["web"]},
+    "lies": {"may_lie": ["web", "key", "nest"], "places": ["web"]},
+    "worths": {"best": ["web", "worths"], "is_best": ["web", "worths", "told"]},
 }
 
 
