@@ -100,6 +100,21 @@ EDGE_WEBS = [
 ]
 
 
+def homes_by(rule, key):
+    rooms, ways = rule
+    return tuple((factor * key + shift) % 10007 % len(rooms) for factor, shift in ways)
+
+
+def web_by(rule, keys):
+    return (rule[0], tuple(homes_by(rule, key) for key in keys))
+
+
+def drawn_rule(draw, nests, greatest, ways=None):
+    rooms = tuple(draw.below(greatest + 1) for _ in range(nests))
+    many = ways or 2 + draw.below(2)
+    return (rooms, tuple((draw.below(10007), draw.below(10007)) for _ in range(many)))
+
+
 def homes_together(web, some):
     told = []
     for nest in range(len(web[0])):

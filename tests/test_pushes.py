@@ -93,6 +93,11 @@ class PushedTest(unittest.TestCase):
         # By Python's own reckoning from the end key -4 would be key 1, and -1 key 4.
         self.refused(WEB, LAYING, 3, [(3, 0), (0, 1), (-4, 2), (2, 3)], 2)
         self.refused(WEB, LAYING, 4, [(-1, 3)], 0)
+        # The last key does lie in the nest ahead, but -1 is not its number.
+        web = ((1, 1), ((0, 0), (0, 1)))
+        self.assertEqual(pushed(web, [None, 0], 0, [(0, 0), (1, 1)]), [0, 1])
+        self.refused(web, [None, 0], 0, [(0, 0), (-1, 1)], 1)
+        self.refused(web, [None, 0], 0, [(-2, 0), (1, 1)], 0)
 
     def test_numbers_of_no_nest(self):
         for nest in (-1, -2, -4, 4, 5, FAR, -FAR, FARTHEST):
